@@ -1,0 +1,1 @@
+"""Sets of moments, kept in eight registers."""
