@@ -7,10 +7,12 @@ neither changes what is held.
 """
 
 from momentsets.layout import check_ranges
-from momentsets.limits import LATEST, MOST_BOUNDS
+from momentsets.limits import LATEST, MOST_BOUNDS, MOST_STRETCHES
 from momentsets.moments import both, earlier, either, later, less, odd, other, recent, steady
+from momentsets.moments import every, fill, gaps, hull, lasting, soon
+from momentsets.questions import count_of_pieces, first, first_from, has, last, last_up_to, nth, piece_at, rank, size
 from momentsets.refusals import BadForm, BoundTooLate, OutOfRange, TooManyBounds
-from momentsets.relations import allen
+from momentsets.relations import allen, relate
 from momentsets.texts import set_of_text, text_of_set
 
 
@@ -94,6 +96,35 @@ def make_steady(held, numbers, row):
     return steady(held[numbers[1]], numbers[2])
 
 
+def make_soon(held, numbers, row):
+    return soon(held[numbers[1]], numbers[2])
+
+
+def make_hull(held, numbers, row):
+    return hull(held[numbers[1]])
+
+
+def make_gaps(held, numbers, row):
+    return gaps(held[numbers[1]])
+
+
+def make_lasting(held, numbers, row):
+    return lasting(held[numbers[1]], numbers[2])
+
+
+def make_fill(held, numbers, row):
+    return fill(held[numbers[1]], numbers[2])
+
+
+def make_every(held, numbers, row):
+    step = numbers[2]
+    length = numbers[3]
+    count = numbers[4]
+    if length == 0 or length > step or count > MOST_STRETCHES:
+        raise OutOfRange()
+    return every(numbers[1], step, length, count)
+
+
 def ask_bounds(held, numbers, row):
     bounds = held[numbers[0]]
     return [len(bounds)] + bounds
@@ -104,6 +135,50 @@ def ask_show(held, numbers, row):
     return [len(text)] + text
 
 
+def ask_has(held, numbers, row):
+    return [has(held[numbers[0]], numbers[1])]
+
+
+def ask_first(held, numbers, row):
+    return [first(held[numbers[0]])]
+
+
+def ask_last(held, numbers, row):
+    return [last(held[numbers[0]])]
+
+
+def ask_size(held, numbers, row):
+    return [size(held[numbers[0]])]
+
+
+def ask_next(held, numbers, row):
+    return [first_from(held[numbers[0]], numbers[1])]
+
+
+def ask_prev(held, numbers, row):
+    return [last_up_to(held[numbers[0]], numbers[1])]
+
+
+def ask_nth(held, numbers, row):
+    return [nth(held[numbers[0]], numbers[1])]
+
+
+def ask_rank(held, numbers, row):
+    return [rank(held[numbers[0]], numbers[1])]
+
+
+def ask_pieces(held, numbers, row):
+    return count_of_pieces(held[numbers[0]])
+
+
+def ask_piece(held, numbers, row):
+    return piece_at(held[numbers[0]], numbers[1])
+
+
+def ask_relate(held, numbers, row):
+    return [relate(held[numbers[0]], held[numbers[1]])]
+
+
 def ask_allen(held, numbers, row):
     return [allen(held[numbers[0]], held[numbers[1]])]
 
@@ -112,9 +187,14 @@ MAKERS = {
     0: make_clear, 1: make_put, 3: make_read,
     5: make_add, 6: make_open, 7: make_cut, 8: make_stop, 9: make_flip,
     10: make_either, 11: make_both, 12: make_less, 13: make_odd, 14: make_other,
-    15: make_later, 16: make_earlier, 17: make_recent, 18: make_steady,
+    15: make_later, 16: make_earlier, 17: make_recent, 18: make_steady, 19: make_soon,
+    20: make_hull, 21: make_gaps, 22: make_lasting, 23: make_fill, 24: make_every,
 }
-ASKERS = {2: ask_bounds, 4: ask_show, 36: ask_allen}
+ASKERS = {
+    2: ask_bounds, 4: ask_show, 25: ask_has, 26: ask_first, 27: ask_last, 28: ask_size,
+    29: ask_next, 30: ask_prev, 31: ask_nth, 32: ask_rank, 33: ask_pieces, 34: ask_piece,
+    35: ask_relate, 36: ask_allen,
+}
 
 
 def store(held, r, bounds):

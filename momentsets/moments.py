@@ -7,6 +7,15 @@ these where it is put.
 """
 
 
+def pieces_of(p):
+    """The pieces of p in order, each by its bounds: one if it never ends, else two."""
+    return [p[place:place + 2] for place in range(0, len(p), 2)]
+
+
+def is_endless(p):
+    return len(p) % 2 == 1
+
+
 def combine(p, q, rule):
     """The moments for which rule is true of being in p and of being in q.
 
@@ -87,3 +96,44 @@ def recent(p, n):
 def steady(p, n):
     """The moments that have no moment outside p at most n before them."""
     return other(recent(other(p), n))
+
+
+def soon(p, n):
+    """The moments that have a moment of p at most n behind them; none is before 0."""
+    return covered([max(begin - n, 0) for begin in p[0::2]], p[1::2])
+
+
+def hull(p):
+    """All from the first moment of p on up to its last one, or on for ever if it has no last one."""
+    if p == [] or is_endless(p):
+        return p[:1]
+    return [p[0], p[-1]]
+
+
+def gaps(p):
+    return less(hull(p), p)
+
+
+def lasting(p, n):
+    """The pieces of p that have at least n moments or never end."""
+    bounds = []
+    for piece in pieces_of(p):
+        if is_endless(piece) or piece[1] - piece[0] >= n:
+            bounds.extend(piece)
+    return bounds
+
+
+def fill(p, n):
+    """The set p with those of its gaps that have at most n moments."""
+    short = []
+    # A gap always ends, as a moment of p is behind it.
+    for gap in pieces_of(gaps(p)):
+        if gap[1] - gap[0] <= n:
+            short.extend(gap)
+    return either(p, short)
+
+
+def every(a, step, length, count):
+    """So many stretches of the same length, each begun one step behind the one before it."""
+    begins = [a + place * step for place in range(count)]
+    return covered(begins, [begin + length for begin in begins])

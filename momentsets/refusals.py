@@ -13,6 +13,10 @@ class NothingThere(Exception):
     """There is no such moment or piece."""
 
 
+class EndlessSet(Exception):
+    """The set is endless, so it has no last moment and no size."""
+
+
 class BoundTooLate(Exception):
     """The set that would be put has a bound above the greatest one allowed."""
 

@@ -3,7 +3,7 @@
 from momentsets.calls import carry_out
 from momentsets.layout import split_calls
 from momentsets.limits import LAST_REGISTER
-from momentsets.refusals import BadForm, BoundTooLate, NothingThere, OutOfRange, TooManyBounds
+from momentsets.refusals import BadForm, BoundTooLate, EndlessSet, NothingThere, OutOfRange, TooManyBounds
 
 
 def answer_or_refusal(held, number, numbers, row):
@@ -15,6 +15,8 @@ def answer_or_refusal(held, number, numbers, row):
         return [-2]
     except NothingThere:
         return [-3]
+    except EndlessSet:
+        return [-4]
     except BoundTooLate:
         return [-5]
     except TooManyBounds:

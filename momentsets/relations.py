@@ -1,7 +1,18 @@
 """How two sets lie to one another."""
 
 from momentsets.limits import LATEST
+from momentsets.moments import both, either, less
 from momentsets.refusals import NothingThere
+
+
+def relate(p, q):
+    """The sum of what holds: 1 for p alone, 2 for q alone, 4 for both, 8 for neither."""
+    return sum([
+        1 if less(p, q) != [] else 0,
+        2 if less(q, p) != [] else 0,
+        4 if both(p, q) != [] else 0,
+        8 if either(p, q) != [0] else 0,
+    ])
 
 
 def end_of(piece):

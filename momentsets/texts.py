@@ -5,7 +5,7 @@ is taken apart byte by byte.
 """
 
 from momentsets.limits import LATEST, MOST_BYTES
-from momentsets.moments import covered
+from momentsets.moments import covered, pieces_of
 from momentsets.refusals import BadForm
 
 BLANK = 32
@@ -99,5 +99,4 @@ def text_of_set(bounds):
         return bytes_of("never")
     if bounds == [0]:
         return bytes_of("always")
-    pieces = [text_of_piece(bounds[place:place + 2]) for place in range(0, len(bounds), 2)]
-    return bytes_of(" ".join(pieces))
+    return bytes_of(" ".join([text_of_piece(piece) for piece in pieces_of(bounds)]))

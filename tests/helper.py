@@ -8,13 +8,17 @@ from momentsets.registers import answers
 LATEST = 1000000000
 HUGE = 10 ** 18
 
-# Each call of the program: its number and its whole numbers, one letter each.
+# Each call of the program: its number and its whole numbers, one letter each (s, l, c: step, len, count).
 CALLS = {
     "clear": (0, "r"), "put": (1, "r"), "bounds": (2, "r"), "read": (3, "r"), "show": (4, "r"),
     "add": (5, "rab"), "open": (6, "ra"), "cut": (7, "rab"), "stop": (8, "ra"), "flip": (9, "ra"),
     "either": (10, "rpq"), "both": (11, "rpq"), "less": (12, "rpq"), "odd": (13, "rpq"),
     "other": (14, "rp"), "later": (15, "rpn"), "earlier": (16, "rpn"),
-    "recent": (17, "rpn"), "steady": (18, "rpn"), "allen": (36, "pq"),
+    "recent": (17, "rpn"), "steady": (18, "rpn"), "soon": (19, "rpn"), "hull": (20, "rp"), "gaps": (21, "rp"),
+    "lasting": (22, "rpn"), "fill": (23, "rpn"), "every": (24, "raslc"),
+    "has": (25, "rt"), "first": (26, "r"), "last": (27, "r"), "size": (28, "r"), "next": (29, "rt"),
+    "prev": (30, "rt"), "nth": (31, "rn"), "rank": (32, "rt"), "pieces": (33, "r"), "piece": (34, "ri"),
+    "relate": (35, "pq"), "allen": (36, "pq"),
 }
 
 # Eight sets that all differ, so that a change of any register shows.
@@ -115,6 +119,13 @@ class Case(unittest.TestCase):
         told = ask(*before, *all_bounds(), call, *all_bounds())
         start = len(before)
         self.assertEqual(told[start + 8], [number], call)
+        self.assertEqual(told[start + 9:], told[start:start + 8], call)
+
+    def check_asked(self, before, call, answer):
+        """The call answers just this, and every register is as it was."""
+        told = ask(*before, *all_bounds(), call, *all_bounds())
+        start = len(before)
+        self.assertEqual(told[start + 8], answer, (before, call))
         self.assertEqual(told[start + 9:], told[start:start + 8], call)
 
     def check_many(self, asked):

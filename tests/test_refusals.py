@@ -14,12 +14,19 @@ def row_of(name):
     return [ROWS[name]] if name in ROWS else []
 
 
+def good_value(kind, registers, moment):
+    """A value that is not refused: b is above a, len isn't 0 nor greater than step, count isn't above 32."""
+    if kind in "rpq":
+        return registers
+    if kind in "sl":
+        return max(moment, 1)
+    if kind == "c":
+        return min(moment, 32)
+    return moment + (kind == "b")
+
+
 def good_call(name, registers=0, moment=3):
-    """A call of this name that is not refused for an argument: b is above a."""
-    call = [name]
-    for kind in CALLS[name][1]:
-        call.append(registers if kind in "rpq" else moment + (kind == "b"))
-    return call + row_of(name)
+    return [name] + [good_value(kind, registers, moment) for kind in CALLS[name][1]] + row_of(name)
 
 
 class Ranges(Case):
@@ -45,8 +52,12 @@ class Ranges(Case):
                     self.assertNotEqual(told[8], [-1], name)
         for name in ("open", "stop", "flip"):
             self.assertNotEqual(ask((name, 0, LATEST)), [[-1]])
-        for name in ("later", "earlier", "recent", "steady"):
+        for name in ("later", "earlier", "recent", "steady", "soon", "lasting", "fill"):
             self.assertNotEqual(ask((name, 0, 0, LATEST)), [[-1]])
+        for name in ("has", "next", "prev", "nth", "rank", "piece"):
+            self.assertNotEqual(ask((name, 0, LATEST)), [[-1]])
+        self.assertEqual(ask(("every", 0, LATEST, LATEST, LATEST, 0)), [[0]])
+        self.assertEqual(ask(("every", 0, 0, LATEST, LATEST, 1)), [[2]])
 
     def test_a_not_less_than_b(self):
         for name in ("add", "cut"):
@@ -60,6 +71,81 @@ class Ranges(Case):
                 self.check_refused(BEFORE, (name, 2, a, b), -1)
 
 
+class Every(Case):
+    def check_wrong(self, *numbers):
+        for r in (0, 1, 7):
+            self.check_refused(BEFORE, ("every", r, *numbers), -1)
+
+    def test_len_0(self):
+        self.check_wrong(3, 5, 0, 2)
+        self.check_wrong(3, 0, 0, 2)
+        self.check_wrong(0, 0, 0, 0)
+
+    def test_len_greater_than_step(self):
+        self.check_wrong(3, 5, 6, 2)
+        self.check_wrong(3, 0, 1, 2)
+        self.check_wrong(3, LATEST - 1, LATEST, 1)
+        self.check_wrong(0, 1, LATEST, 1)
+
+    def test_count_above_32(self):
+        for count in (33, 34, 64, 1000, LATEST):
+            self.check_wrong(3, 5, 2, count)
+            self.check_wrong(3, 5, 5, count)
+
+    def test_count_0_is_held_against_the_same_ranges(self):
+        self.check_wrong(3, 5, 0, 0)
+        self.check_wrong(3, 5, 6, 0)
+        self.check_wrong(LATEST + 1, 5, 5, 0)
+        self.check_wrong(3, LATEST + 1, 5, 0)
+        self.check_wrong(3, LATEST + 2, LATEST + 1, 0)
+
+    def test_a_bound_too_late(self):
+        for numbers in ((LATEST, 1, 1, 1), (LATEST - 1, 2, 2, 1), (0, LATEST, 1, 2), (5, LATEST, LATEST, 1),
+                        (LATEST, LATEST, LATEST, 32), (LATEST - 31 * 5 - 1, 5, 2, 32), (LATEST - 159, 5, 5, 32)):
+            for r in (0, 1, 7):
+                self.check_refused(BEFORE, ("every", r, *numbers), -5)
+
+    def test_wrong_numbers_before_a_bound_too_late(self):
+        self.check_wrong(LATEST, 1, 0, 1)
+        self.check_wrong(LATEST, 0, 0, 1)
+        self.check_wrong(LATEST, 1, 2, 1)
+        self.check_wrong(LATEST, 1, 1, 33)
+        self.check_wrong(0, LATEST, 1, 33)
+        self.check_wrong(LATEST + 1, 1, 1, 1)
+        for r in (-1, 8):
+            self.check_refused(BEFORE, ("every", r, LATEST, 1, 1, 1), -1)
+
+
+class NoSuchMomentOrPiece(Case):
+    """Register 1 holds never."""
+
+    def test_never(self):
+        for call in (("first", 1), ("last", 1), ("next", 1, 0), ("next", 1, LATEST), ("prev", 1, 0),
+                     ("prev", 1, LATEST), ("nth", 1, 0), ("nth", 1, LATEST), ("piece", 1, 0), ("piece", 1, LATEST)):
+            self.check_refused(BEFORE, call, -3)
+
+    def test_sets_that_are_not_never(self):
+        for call in (("next", 3, 5), ("next", 7, LATEST), ("prev", 0, 2), ("prev", 4, LATEST - 1), ("nth", 3, 5),
+                     ("nth", 6, 1), ("nth", 7, LATEST), ("piece", 0, 2), ("piece", 2, 1), ("piece", 3, LATEST)):
+            self.check_refused(BEFORE, call, -3)
+
+
+class Endless(Case):
+    def test_endless_sets(self):
+        for bounds in ([0], [1], [LATEST], [3, 7, 9], many(63)):
+            for name in ("last", "size"):
+                self.check_refused([*BEFORE, ("put", 6, bounds)], (name, 6), -4)
+
+    def test_never_is_not_endless(self):
+        self.check_refused(BEFORE, ("last", 1), -3)
+        self.check_asked(BEFORE, ("size", 1), [0])
+
+    def test_no_other_question_is_refused(self):
+        for call in (("has", 0, 8), ("first", 0), ("next", 0, 8), ("prev", 0, 8), ("nth", 0, 8), ("rank", 0, 8),
+                     ("pieces", 0), ("piece", 0, 1), ("relate", 0, 0), ("allen", 2, 4)):
+            self.assertGreaterEqual(ask(*BEFORE, call)[8][0], 0, call)
+
+
 class TheEarlierOne(Case):
     def test_range_before_form(self):
         for r in (-1, 8, HUGE):
@@ -71,6 +157,21 @@ class TheEarlierOne(Case):
     def test_range_before_no_such_piece(self):
         for p, q in ((1, 8), (8, 1), (-1, 0), (0, -1), (5, HUGE)):
             self.check_refused(BEFORE, ("allen", p, q), -1)
+
+    def test_range_before_no_such_moment(self):
+        for name in ("next", "prev", "nth", "piece"):
+            for value in (-1, LATEST + 1, HUGE, -HUGE):
+                # Register 1 holds never, where each of these has nothing to find.
+                self.check_refused(BEFORE, (name, 1, value), -1)
+                self.check_refused(BEFORE, (name, 0, value), -1)
+        for name in ("first", "last"):
+            self.check_refused([], (name, 8), -1)
+
+    def test_range_before_an_endless_set(self):
+        endless = [("put", r, [r]) for r in range(8)]
+        for name in ("last", "size"):
+            for r in (-1, -8, 8, HUGE, -HUGE):
+                self.check_refused(endless, (name, r), -1)
 
     def test_range_before_a_bound_too_late(self):
         for r in (-1, 8):
@@ -117,8 +218,8 @@ class TheEarlierOne(Case):
 class BehindARefusal(Case):
     def test_the_next_calls_go_on(self):
         told = ask(("add", 0, 3, 7), ("add", 0, 7, 3), ("put", 0, [5, 5]), ("later", 0, 0, LATEST),
-                   ("open", 0, 9), ("bounds", 0))
-        self.assertEqual(told, [[2], [-1], [-2], [-5], [3], [3, 3, 7, 9]])
+                   ("piece", 0, 1), ("put", 0, many(65)), ("open", 0, 9), ("last", 0), ("bounds", 0))
+        self.assertEqual(told, [[2], [-1], [-2], [-5], [-3], [-6], [3], [-4], [3, 3, 7, 9]])
 
 
 if __name__ == "__main__":
